@@ -1,0 +1,1 @@
+"""Roompace: rooms with clocks of their own pace."""
