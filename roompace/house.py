@@ -14,7 +14,8 @@ from roompace.waiting import events_seen, waited
 class House:
     """A house, which has one room at first.
 
-    All that it contains is in its attribute `state`, which each deed replaces by a new one.
+    All that it contains, and its past, is in its attribute `state`, which each deed
+    replaces by a new one. The room of the viewpoint is in its attribute `view_room`.
     """
 
     MOST_ROOMS = 10
@@ -27,7 +28,7 @@ class House:
         if not is_plain_name(outermost):
             raise InvalidName(outermost)
         self.state = State(outermost)
-        self._viewpoint = outermost
+        self.view_room = outermost
 
     @staticmethod
     def is_name(thing):
@@ -84,11 +85,11 @@ class House:
 
     def wait(self, amount, *, by=None):
         """Let time pass until a timekeeper has grown by the amount; return the events."""
-        keeper = self._viewpoint if by is None else by
+        keeper = self.view_room if by is None else by
         before = self.state
         later, events = waited(before, amount, keeper, self.MOST_EVENTS)
         self.state = later
-        return events_seen(before, events, self._viewpoint)
+        return events_seen(before, events, self.view_room)
 
     def do(self, deed):
         """Do a deed that is given as a tuple, and return what its method returns."""
@@ -116,17 +117,17 @@ class House:
     @property
     def viewpoint(self):
         """The name of the room whose clock tells the readings of events."""
-        return self._viewpoint
+        return self.view_room
 
     @viewpoint.setter
     def viewpoint(self, room):
         check_room(self.state, room)
-        self._viewpoint = room
+        self.view_room = room
 
     @property
     def now(self):
         """The reading of the clock of the viewpoint."""
-        return self.state.readings[self._viewpoint]
+        return self.state.readings[self.view_room]
 
     @property
     def moment(self):
@@ -181,10 +182,10 @@ class House:
             yield name
 
     def copy(self):
-        """Return an independent house with the same state and viewpoint."""
+        """Return an independent house with the same state, viewpoint and past."""
         twin = House(self.state.top)
         twin.state = self.state
-        twin.viewpoint = self._viewpoint
+        twin.view_room = self.view_room
         return twin
 
     def __eq__(self, other):

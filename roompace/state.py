@@ -1,4 +1,4 @@
-"""What a house contains at one moment, and questions about its rooms.
+"""What a house contains at one moment, with its past, and questions about its rooms.
 
 A state that a house has is never changed: a deed makes a new one.
 So a deed that raises an error changes nothing, and houses may share a state.
@@ -21,6 +21,9 @@ class State:
         self.walks = {}
         self.bell_table = {}
         self.alarm_table = {}
+        # The tables of readings at the beginning of each earlier wait and at each arrival in it:
+        # from one to the next, and to the present one, all readings grew evenly.
+        self.past = ()
 
 
 def copied(state):
@@ -35,6 +38,7 @@ def copied(state):
     twin.walks = dict(state.walks)
     twin.bell_table = dict(state.bell_table)
     twin.alarm_table = dict(state.alarm_table)
+    twin.past = state.past
     return twin
 
 

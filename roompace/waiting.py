@@ -32,7 +32,9 @@ def waited(state, amount, by, most_events):
     check_digits(later)
     for bell in state.bell_table:
         rows.extend(strokes_within(state, bell, moments))
-    return later, in_order(rows)
+    events = in_order(rows)
+    later.past = state.past + readings_at_changes(state, events)
+    return later, events
 
 
 def moments_of_wait(state, amount, by):
@@ -100,11 +102,27 @@ def in_order(rows):
     return [(row[0], KINDS[kind], name, row[3]) for _, kind, name, row in ranked]
 
 
+def readings_after(state, moments):
+    """Return the table of readings after some moments."""
+    return {name: add(state.readings[name], growth_in(state, name, moments)) for name in state.readings}
+
+
+def readings_at_changes(state, events):
+    """Return the tables of readings at the beginning of a wait and at its arrivals.
+
+    Nothing else in a wait changes a rate.
+    """
+    tables = [state.readings]
+    for event in events:
+        if event[1] == KINDS[ARRIVAL]:
+            tables.append(readings_after(state, event[0]))
+    return tuple(tables)
+
+
 def state_after(state, moments):
     """Return the state after some moments in which all events happen."""
     later = copied(state)
-    for name in state.readings:
-        later.readings[name] = add(state.readings[name], growth_in(state, name, moments))
+    later.readings = readings_after(state, moments)
     for person in state.walks:
         goal, end = state.walks[person]
         if compare(later.readings[state.spots[person]], end) >= 0:

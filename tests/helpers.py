@@ -1,7 +1,10 @@
 """What several tests share: a small house, odd objects, and checks of errors."""
 
+from roompace.errors import NeverShown
 from roompace.house import House
 from roompace.lines import state_text
+from roompace.numbers import number
+from roompace.past import convert
 
 # Objects that are no name.
 NO_NAMES = [
@@ -28,9 +31,39 @@ def small_house():
     return house
 
 
+# Objects that are no deed.
+NO_DEEDS = [
+    None, True, 0, "wait", "cancel", (), [], ("wait",), ("wait", (1, 1)), ["wait", (1, 1), None],
+    ("wait", (1, 1), None, None), ("cancel",), ("cancel", "cook", "cook"), ("pace", "hall"), ("build", "loft", "hall"),
+    ("viewpoint", "hall"), ("set_pace", "hall", (1, 1)), ("WAIT", (1, 1), None), (None, "cook"), (["wait"], (1, 1), None),
+    (("cancel", "cook"),), ("walk", "ann", "hall", (1, 1)), ("come", "cid", "hall"), ("hang", "bell", "hall"),
+    ("alarm", "wake", "hall"), ("carry", "hall"), (1, 2, 3),
+]
+
+
 def all_of(house):
-    """Everything that a call could change."""
+    """Everything that a call could change, but for the past."""
     return (state_text(house.state), house.viewpoint)
+
+
+def past_of(house):
+    """Conversions of a house between all of its timekeepers, at some readings of each."""
+    names = house.rooms() + house.people()
+    told = {}
+    for of in names:
+        above, below = house.timekeeper(of).time
+        readings = [number(above * part, below * 4) for part in range(6)] + [(1, 3), (5, 2)]
+        for to in names:
+            for reading in readings:
+                try:
+                    told[of, to, reading] = convert(house, reading, of, to)
+                except NeverShown:
+                    told[of, to, reading] = None
+    return told
+
+
+def all_with_past(house):
+    return all_of(house) + (past_of(house),)
 
 
 def check_error(case, error, fields, act, house=None):

@@ -3,10 +3,15 @@
 from fractions import Fraction
 
 from roompace.house import House
+from roompace.lines import state_text
 
 
 def pair(fraction):
     return (fraction.numerator, fraction.denominator)
+
+
+def house_text(house):
+    return state_text(house.state)
 
 
 class Model:
@@ -14,6 +19,7 @@ class Model:
 
     def __init__(self, text):
         self.rooms, self.people, self.bells, self.alarms = {}, {}, {}, {}
+        self.diary = None
         for line in text.split("\n"):
             word, name, *rest = line.split(" ")
             if word == "house":
@@ -62,6 +68,8 @@ class Model:
         for name in rates:
             row = self.rooms.get(name) or self.people.get(name)
             row["time"] += moments * rates[name]
+        if self.diary is not None:
+            self.diary.note(self)
 
     def happen(self, kind, name, viewpoint):
         if kind == 0:
@@ -128,3 +136,69 @@ def random_house(chance, deeds=40):
             pass
     house.viewpoint = chance.choice(house.rooms())
     return house
+
+
+class Diary:
+    """The readings of every timekeeper of a house at many moments, written down by the model."""
+
+    def __init__(self, house):
+        self.tracks = {}
+        self.note(Model(house_text(house)))
+
+    def note(self, model):
+        """Write down a point (moment, reading) for each timekeeper."""
+        moment = next(room["time"] for room in model.rooms.values() if room["around"] is None)
+        for name in list(model.rooms) + list(model.people):
+            self.tracks.setdefault(name, []).append((moment, model.time(name)))
+
+    def do(self, house, deed):
+        """Do a deed, if it fits, and write down what happens then."""
+        before = house_text(house)
+        try:
+            house.do(deed)
+        except (ValueError, RuntimeError, LookupError):
+            return
+        if deed[0] == "wait":
+            model = Model(before)
+            model.diary = self
+            model.wait(deed[1], deed[2] or house.viewpoint, house.viewpoint)
+        self.note(Model(house_text(house)))
+
+    def since(self, name, start):
+        """The points of a timekeeper from a moment on."""
+        track = self.tracks[name]
+        return [(start, self.reading(name, start))] + [point for point in track if point[0] > start]
+
+    def reading(self, name, moment):
+        """What a timekeeper showed at a moment."""
+        track = self.tracks[name]
+        for (begin, first), (end, last) in zip(track, track[1:]):
+            if begin <= moment <= end and begin < end:
+                return first + (last - first) * (moment - begin) / (end - begin)
+        return track[-1][1]
+
+    def convert(self, reading, of, to):
+        """What `to` showed first and last while `of` showed the reading; None if that never was."""
+        start = max(self.tracks[of][0][0], self.tracks[to][0][0])
+        track = self.since(of, start)
+        moments = [moment for moment, shown in track if shown == reading]
+        for (begin, first), (end, last) in zip(track, track[1:]):
+            if first < reading < last:
+                moments.append(begin + (reading - first) * (end - begin) / (last - first))
+        if not moments:
+            return None
+        return (pair(self.reading(to, min(moments))), pair(self.reading(to, max(moments))))
+
+
+def random_life(chance, deeds=40):
+    """A house after some deeds and waits, with its diary."""
+    house = House("yard")
+    diary = Diary(house)
+    for _ in range(deeds):
+        if chance.random() < 0.3:
+            deed = ("wait", random_number(chance, 9), chance.choice((None,) + house.rooms() + house.people()))
+        else:
+            deed = random_deed(chance, house)
+        diary.do(house, deed)
+    house.viewpoint = chance.choice(house.rooms())
+    return house, diary

@@ -225,6 +225,34 @@ class StatementTest(unittest.TestCase):
                 if isinstance(node, ast.ExceptHandler):
                     self.assertIsNotNone(node.type)
 
+    def test_rows_at_the_end_of_a_block(self):
+        for path in TREES:
+            for function in functions(TREES[path]):
+                if function.name == "__exit__":
+                    self.assertEqual(parameters(function), ["self", "kind", "value", "trace"], path)
+                    for row in function.body:
+                        self.assertRegex(ast.unparse(row), r"^([a-z_]+|[a-z_]+\.[a-z_]+) = self(\.[a-z_]+)+$", path)
+
+    def test_generators(self):
+        names = [function.name for tree in TREES.values() for function in functions(tree)]
+        for path in TREES:
+            for function in functions(TREES[path]):
+                if not any(isinstance(node, (ast.Yield, ast.YieldFrom)) for node in ast.walk(function)):
+                    continue
+                self.assertEqual(names.count(function.name), 1, (path, function.name))
+                self.assertFalse(any(isinstance(node, (ast.Try, ast.With, ast.Lambda)) for node in ast.walk(function)), path)
+                for node in ast.walk(function):
+                    self.assertFalse(isinstance(node, ast.Return) and node.value is not None, (path, function.name))
+                    self.assertNotIsInstance(node, ast.YieldFrom, path)
+
+    def test_blocks(self):
+        for path in TREES:
+            for node in ast.walk(TREES[path]):
+                if isinstance(node, ast.With):
+                    for item in node.items:
+                        self.assertIsInstance(item.context_expr, (ast.Call, ast.Name, ast.Attribute), path)
+                        self.assertTrue(item.optional_vars is None or isinstance(item.optional_vars, ast.Name), path)
+
     def test_module_level(self):
         for path in TREES:
             for k, node in enumerate(TREES[path].body):
