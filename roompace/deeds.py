@@ -2,7 +2,7 @@
 
 from roompace.errors import (
     DoorBusy, Full, InsideItself, InvalidName, InvalidNumber, InvalidPace, InvalidReading, NameTaken,
-    NoAlarm, NoPerson, NoRoom, NoTimekeeper, NotNextDoor, Outermost, Walking,
+    NoAlarm, NoBell, NoPerson, NoRoom, NoTimekeeper, NotNextDoor, Outermost, Walking,
 )
 from roompace.numbers import add, compare, is_factor, is_length, is_number, is_pace
 from roompace.state import copied, is_inside, is_named, is_plain_name, is_taken, way_between
@@ -29,6 +29,16 @@ def check_new_name(state, name):
 def check_room(state, room):
     if not is_named(state.outers, room):
         raise NoRoom(room)
+
+
+def check_person(state, person):
+    if not is_named(state.spots, person):
+        raise NoPerson(person)
+
+
+def check_bell(state, name):
+    if not is_named(state.bell_table, name):
+        raise NoBell(name)
 
 
 def check_timekeeper(state, name):
@@ -104,8 +114,7 @@ def joined(state, person, room, factor, most):
 
 
 def walk_begun(state, person, room):
-    if not is_named(state.spots, person):
-        raise NoPerson(person)
+    check_person(state, person)
     check_room(state, room)
     if person in state.walks:
         raise Walking(person)

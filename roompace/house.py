@@ -1,9 +1,9 @@
 """Houses: the rooms with all that is in them, and the deeds on them."""
 
 from roompace.deeds import (
-    alarm_added, alarm_cancelled, bell_hung, built, carried, check_room, is_deed, joined, paced, walk_begun,
+    alarm_added, alarm_cancelled, bell_hung, built, carried, check_bell, check_room, is_deed, joined, paced, walk_begun,
 )
-from roompace.errors import InvalidDeed, InvalidName, NoAlarm, NoBell, NoTimekeeper
+from roompace.errors import InvalidDeed, InvalidName, NoAlarm, NoTimekeeper
 from roompace.lines import state_text
 from roompace.reading import read_state
 from roompace.state import State, is_named, is_plain_name, names_inside
@@ -165,8 +165,7 @@ class House:
 
     def bell(self, name):
         """Return the room and the step of a bell."""
-        if not is_named(self.state.bell_table, name):
-            raise NoBell(name)
+        check_bell(self.state, name)
         return self.state.bell_table[name]
 
     def alarm(self, name):

@@ -53,6 +53,11 @@ def growth_in(state, name, moments):
     return add(multiply(rate, arrival), rest)
 
 
+def reading_after(state, name, moments):
+    """Return what a timekeeper shows after the next moments."""
+    return add(state.readings[name], growth_in(state, name, moments))
+
+
 def moments_until(state, name, growth):
     """Return in how many moments a timekeeper first has grown by a positive number.
 

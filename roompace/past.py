@@ -2,7 +2,7 @@
 
 from roompace.deeds import check_timekeeper
 from roompace.errors import InvalidReading, NeverReached, NeverShown
-from roompace.motion import ZERO, growth_in, moments_until
+from roompace.motion import ZERO, moments_until, reading_after
 from roompace.numbers import add, compare, divide, is_number, multiply, subtract
 
 
@@ -64,4 +64,4 @@ def forecast(house, reading, of, to):
     moments = ZERO if growth == ZERO else moments_until(state, of, growth)
     if moments is None:
         raise NeverReached(of)
-    return add(state.readings[to], growth_in(state, to, moments))
+    return reading_after(state, to, moments)

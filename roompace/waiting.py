@@ -2,10 +2,11 @@
 
 from math import lcm
 
+from roompace.bells import rhythm_of, stroke_count
 from roompace.deeds import check_timekeeper
 from roompace.errors import InvalidAmount, NeverReached, TooLong, TooMany
-from roompace.motion import growth_in, moments_to_arrival, moments_until, room_rate
-from roompace.numbers import add, compare, divide, floor_of, is_positive, multiply, number, subtract
+from roompace.motion import moments_to_arrival, moments_until, reading_after, room_rate
+from roompace.numbers import add, compare, is_positive, multiply, number, subtract
 from roompace.state import copied
 
 MOST_DIGITS = 400
@@ -72,23 +73,15 @@ def alarms_within(state, moments):
     return rows
 
 
-def stroke_count(state, bell, moments):
-    """Return how often a bell strikes in the next moments."""
-    room, step = state.bell_table[bell]
-    begin = state.readings[room]
-    end = add(begin, growth_in(state, room, moments))
-    return floor_of(divide(end, step)) - floor_of(divide(begin, step))
-
-
 def strokes_within(state, bell, moments):
-    room, step = state.bell_table[bell]
-    begin = state.readings[room]
-    rate = room_rate(state, room)
-    past = floor_of(divide(begin, step))
+    room, _ = state.bell_table[bell]
+    rhythm = rhythm_of(state, bell)
+    if rhythm is None:
+        return []
+    first, every = rhythm
     rows = []
     for k in range(stroke_count(state, bell, moments)):
-        reading = multiply(number(past + 1 + k), step)
-        rows.append((divide(subtract(reading, begin), rate), STROKE, bell, room))
+        rows.append((add(first, multiply(number(k), every)), STROKE, bell, room))
     return rows
 
 
@@ -104,7 +97,7 @@ def in_order(rows):
 
 def readings_after(state, moments):
     """Return the table of readings after some moments."""
-    return {name: add(state.readings[name], growth_in(state, name, moments)) for name in state.readings}
+    return {name: reading_after(state, name, moments) for name in state.readings}
 
 
 def readings_at_changes(state, events):

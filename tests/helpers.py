@@ -2,9 +2,9 @@
 
 from roompace.errors import NeverShown
 from roompace.house import House
-from roompace.lines import state_text
 from roompace.numbers import number
 from roompace.past import convert
+from roompace.texts import house_text
 
 # Objects that are no name.
 NO_NAMES = [
@@ -16,6 +16,11 @@ NO_NUMBERS = [
     None, True, False, 0, 1, "", "1", "1/2", (), (1,), (1, 2, 3), [1, 2], (2, 4), (0, 2), (1, 0), (0, 0),
     (1, -1), (-2, -3), (True, 1), (1, True), (False, 1), (1, None), ("1", 2), ((1, 1), (1, 1)), [(1, 2)],
 ]
+
+
+def read(*lines):
+    """The house that has these lines."""
+    return House.read("\n".join(lines))
 
 
 def small_house():
@@ -31,6 +36,11 @@ def small_house():
     return house
 
 
+# Objects that are no timekeeper, no person, and no bell of the small house.
+NO_TIMEKEEPERS = NO_NAMES + ["attic", "gong", "cook"]
+NO_PEOPLE = NO_NAMES + ["cid", "hall", "yard", "gong", "cook"]
+NO_BELLS = NO_NAMES + ["peal", "hall", "ann", "cook"]
+
 # Objects that are no deed.
 NO_DEEDS = [
     None, True, 0, "wait", "cancel", (), [], ("wait",), ("wait", (1, 1)), ["wait", (1, 1), None],
@@ -43,7 +53,7 @@ NO_DEEDS = [
 
 def all_of(house):
     """Everything that a call could change, but for the past."""
-    return (state_text(house.state), house.viewpoint)
+    return (house_text(house), house.viewpoint)
 
 
 def past_of(house):

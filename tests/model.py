@@ -3,15 +3,11 @@
 from fractions import Fraction
 
 from roompace.house import House
-from roompace.lines import state_text
+from roompace.texts import house_text
 
 
 def pair(fraction):
     return (fraction.numerator, fraction.denominator)
-
-
-def house_text(house):
-    return state_text(house.state)
 
 
 class Model:

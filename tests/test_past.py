@@ -11,10 +11,8 @@ from roompace.lines import state_text
 from roompace.numbers import compare, number, subtract
 from roompace.past import convert, forecast
 from roompace.trials import Trial, tried
-from tests.helpers import NO_NAMES, NO_NUMBERS, all_of, all_with_past, check_error, small_house
+from tests.helpers import NO_NUMBERS, NO_TIMEKEEPERS, all_of, all_with_past, check_error, small_house
 from tests.model import pair, random_house, random_life, random_number
-
-NO_TIMEKEEPERS = NO_NAMES + ["attic", "gong", "cook"]
 
 
 def twice(reading):

@@ -6,12 +6,8 @@ import unittest
 from roompace.errors import InvalidAmount, NeverReached, NoTimekeeper, TooLong, TooMany
 from roompace.house import House
 from roompace.lines import state_text
-from tests.helpers import check_error, small_house
+from tests.helpers import check_error, read, small_house
 from tests.model import Model, random_house, random_number
-
-
-def read(*lines):
-    return House.read("\n".join(lines))
 
 
 def readings(house):
