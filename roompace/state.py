@@ -64,10 +64,29 @@ def is_taken(state, name):
 
 def is_inside(state, room, outer):
     """Tell whether a room is another one or inside it."""
+    return outer in rooms_outwards(state, room)
+
+
+def rooms_outwards(state, room):
+    """Return a room and the rooms around it, up to the outermost one."""
+    line = []
     at = room
-    while at is not None and at != outer:
+    while at is not None:
+        line.append(at)
         at = state.outers[at]
-    return at is not None
+    return line
+
+
+def path_between(state, first, second):
+    """Return the rooms of the shortest way from one room to another, both of them included."""
+    rise = rooms_outwards(state, first)
+    descent = rooms_outwards(state, second)
+    # Both end in the outermost room; the way turns in the innermost room that they share.
+    while len(rise) > 1 and len(descent) > 1 and rise[-2] == descent[-2]:
+        rise.pop()
+        descent.pop()
+    descent.pop()
+    return rise + descent[::-1]
 
 
 def way_between(state, first, second):

@@ -186,6 +186,7 @@ class NameTest(unittest.TestCase):
             known = set(module_bindings(TREES[path]))
             for function in functions(TREES[path]):
                 known |= set(parameters(function) + stored_names(function))
+            known |= {node.name for node in ast.walk(TREES[path]) if isinstance(node, ast.ExceptHandler)}
             read = {node.id for node in ast.walk(TREES[path]) if isinstance(node, ast.Name)}
             attributes = {node.id for top in ast.walk(TREES[path]) if isinstance(top, ast.ClassDef)
                           for node in ast.walk(top) if isinstance(node, ast.Name) and isinstance(node.ctx, ast.Store)}

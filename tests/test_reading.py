@@ -5,6 +5,7 @@ import unittest
 from roompace.errors import InvalidNumber, InvalidText
 from roompace.house import House
 from roompace.lines import state_text
+from roompace.parsing import parse_house
 from roompace.reading import number_in
 from tests.helpers import check_error
 
@@ -28,7 +29,8 @@ BIGGER = "1" + "0" * 400
 
 class ReadTest(unittest.TestCase):
     def check_wrong(self, lines, index):
-        check_error(self, InvalidText, {"line": index}, lambda: House.read("\n".join(lines)))
+        for reader in (House.read, parse_house):
+            check_error(self, InvalidText, {"line": index}, lambda: reader("\n".join(lines)))
 
     def check_line(self, index, line, good=False):
         """Check whether a line may stand in the place of another one, with the lines before it."""
